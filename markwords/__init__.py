@@ -1,0 +1,1 @@
+"""Markwords: worths kept in words."""
