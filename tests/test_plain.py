@@ -1,5 +1,6 @@
 """Points 2, 3 and 5: what the registers of a plain store hold."""
 
+import itertools
 import math
 import random
 import unittest
@@ -193,6 +194,25 @@ class TwoNumbers(unittest.TestCase):
                     self.assertEqual(look(store), before)
             store = self.held(0, 0)
             refusal(self, Nought, getattr(store, name), 3, 3, 3)
+
+    def test_any_registers(self):
+        worths = [10 ** 59, -3, 7, 2 ** 31, -(2 ** 64), 1, -128, 12]
+        store = PlainStore()
+        for r, q, p in itertools.product(REGISTERS, repeat=3):
+            for name, wanted in DEEDS_OF_TWO.items():
+                for place, n in enumerate(worths):
+                    store.number(place, n)
+                getattr(store, name)(r, q, p)
+                told = worths[:r] + [wanted(worths[q], worths[p])] + worths[r + 1:]
+                self.assertEqual([store.told(place) for place in REGISTERS], told, (name, r, q, p))
+
+    def test_below_of_any_registers(self):
+        worths = [10 ** 59, -3, 7, 2 ** 31, -(2 ** 64), 7, -128, 12]
+        store = PlainStore()
+        for place, n in enumerate(worths):
+            store.number(place, n)
+        for q, p in itertools.product(REGISTERS, repeat=2):
+            self.assertIs(store.below(q, p), worths[q] < worths[p])
 
     def test_numbers_grow_as_far_as_they_need(self):
         store = PlainStore()
