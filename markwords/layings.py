@@ -74,7 +74,11 @@ def mark_of(laying, word):
     return kinds[0] if kinds else None
 
 
+def mark_for(laying, kind):
+    """The mark of a kind, a tuple (kind, width, pattern)."""
+    return [mark for mark in laying[1] if mark[0] == kind][0]
+
+
 def load_bits(laying, kind):
     """How many bits the loads of a kind have."""
-    widths = [width for name, width, pattern in laying[1] if name == kind]
-    return laying[0] - widths[0]
+    return laying[0] - mark_for(laying, kind)[1]

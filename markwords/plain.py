@@ -1,6 +1,6 @@
 """Plain worths, and a store that holds them as they are."""
 
-from markwords.errors import Nought, WrongKind
+from markwords.needs import need_divisor, need_numbers, need_pair
 
 REGISTERS = 8
 
@@ -33,22 +33,9 @@ class PlainStore:
     def __init__(self):
         self.held = ["none"] * REGISTERS
 
-    def need_numbers(self, q, p):
-        if kind_of(self.held[q]) != "number":
-            raise WrongKind(1)
-        if kind_of(self.held[p]) != "number":
-            raise WrongKind(2)
-
-    def need_divisor(self, q, p):
-        self.need_numbers(q, p)
-        if self.held[p] == 0:
-            raise Nought("a number by 0")
-
     def pair_in(self, q):
-        worth = self.held[q]
-        if kind_of(worth) != "pair":
-            raise WrongKind(1)
-        return worth
+        need_pair(self, q)
+        return self.held[q]
 
     def number(self, r, n):
         self.held[r] = n
@@ -63,23 +50,23 @@ class PlainStore:
         self.held[r] = self.held[q]
 
     def plus(self, r, q, p):
-        self.need_numbers(q, p)
+        need_numbers(self, q, p)
         self.held[r] = self.held[q] + self.held[p]
 
     def less(self, r, q, p):
-        self.need_numbers(q, p)
+        need_numbers(self, q, p)
         self.held[r] = self.held[q] - self.held[p]
 
     def times(self, r, q, p):
-        self.need_numbers(q, p)
+        need_numbers(self, q, p)
         self.held[r] = self.held[q] * self.held[p]
 
     def over(self, r, q, p):
-        self.need_divisor(q, p)
+        need_divisor(self, q, p)
         self.held[r] = self.held[q] // self.held[p]
 
     def rest(self, r, q, p):
-        self.need_divisor(q, p)
+        need_divisor(self, q, p)
         self.held[r] = self.held[q] % self.held[p]
 
     def pair(self, r, q, p):
@@ -100,7 +87,7 @@ class PlainStore:
         changed.right = self.held[p]
 
     def below(self, q, p):
-        self.need_numbers(q, p)
+        need_numbers(self, q, p)
         return self.held[q] < self.held[p]
 
     def same(self, q, p):

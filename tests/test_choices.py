@@ -7,9 +7,7 @@ from fractions import Fraction
 
 from markwords.choices import best, made
 from markwords.layings import laying_fault
-
-KINDS = ["small", "far", "pair", "sign", "one"]
-LEAST = [2, 3, 3, 7, 2]
+from tests.laid import LEAST, is_right, widths_of
 
 
 def goes(bits, widths):
@@ -17,26 +15,6 @@ def goes(bits, widths):
     if any(bits - width < least for width, least in zip(widths, LEAST)):
         return False
     return sum(Fraction(1, 2 ** width) for width in widths) <= 1
-
-
-def widths_of(laying):
-    """The widths in the order small, far, pair, sign, one."""
-    widths = {kind: width for kind, width, pattern in laying[1]}
-    return [widths[kind] for kind in KINDS]
-
-
-def is_right(laying):
-    """Whether a laying is right, without the program's own judge."""
-    bits, marks = laying
-    if not 8 <= bits <= 32 or sorted(mark[0] for mark in marks) != sorted(KINDS):
-        return False
-    if not all(1 <= width < bits and 0 <= pattern < 2 ** width for kind, width, pattern in marks):
-        return False
-    for one, other in itertools.combinations(marks, 2):
-        shared = 2 ** min(one[1], other[1])
-        if one[2] % shared == other[2] % shared:
-            return False
-    return all(bits - width >= least for width, least in zip(widths_of(laying), LEAST))
 
 
 def is_laid(taken, widths):

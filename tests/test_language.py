@@ -47,6 +47,7 @@ KEYWORDS = {
 }
 WALKED = {"zip", "enumerate", "reversed", "range", "items", "keys", "values"}
 WALKERS = {"list", "tuple", "dict", "sorted", "sum", "any", "all", "enumerate", "zip", "min", "max", "join"}
+CHANGES = set("append clear extend insert pop remove reverse setdefault update".split())
 TOP_LEVEL = (ast.FunctionDef, ast.ClassDef, ast.ImportFrom, ast.Assign)
 
 
@@ -237,6 +238,20 @@ class Language(unittest.TestCase):
                 handed = isinstance(around, ast.Call) and called_name(around) in WALKERS
                 self.assertTrue(walked or handed, where)
             self.assertNotIn(name, ("set", "frozenset", "print"), where)
+
+    def test_what_a_loop_walks_is_not_changed_in_it(self):
+        for source, loop, where in self.each(ast.For):
+            walked = {node.id for node in ast.walk(loop.iter) if isinstance(node, ast.Name)}
+            if isinstance(loop.iter, ast.Call) and called_name(loop.iter) == "list":
+                continue
+            for node in [part for row in loop.body for part in ast.walk(row)]:
+                changed = None
+                if isinstance(node, ast.Attribute) and node.attr in CHANGES:
+                    changed = node.value
+                if isinstance(node, ast.Subscript) and isinstance(node.ctx, ast.Store):
+                    changed = node.value
+                if isinstance(changed, ast.Name):
+                    self.assertNotIn(changed.id, walked, where)
 
     def test_python_s_own_names_are_called_not_kept(self):
         for source, node, where in self.each(ast.Name):

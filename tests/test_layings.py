@@ -6,18 +6,11 @@ import random
 import unittest
 
 from markwords.layings import laying_fault, load_bits, mark_of
+from tests.laid import FULL, KINDS, LEAN, OPEN, WIDE
 
-KINDS = ["small", "far", "pair", "sign", "one"]
 LEAST = {"small": 2, "far": 3, "pair": 3, "sign": 7, "one": 2}
 FAR_BEYOND = [10 ** 60, -(10 ** 60), 10 ** 200, -(10 ** 200), 2 ** 5000, -(2 ** 5000)]
 FORM = ("form", None)
-
-# Right for 8 bits and all above; the second leaves words without a mark.
-FULL = [("sign", 1, 0), ("small", 3, 1), ("far", 3, 3), ("pair", 3, 5), ("one", 3, 7)]
-OPEN = [("one", 4, 3), ("sign", 1, 0), ("pair", 4, 11), ("small", 3, 1), ("far", 4, 5)]
-# Right from 9, from 10 bits on.
-LEAN = [("small", 2, 3), ("far", 3, 6), ("pair", 3, 2), ("sign", 2, 1), ("one", 2, 0)]
-WIDE = [("pair", 3, 4), ("small", 1, 1), ("sign", 3, 2), ("one", 4, 8), ("far", 5, 16)]
 
 
 def replaced(marks, kind, width, pattern):

@@ -1,22 +1,12 @@
 """Points 2, 3 and 5: what the registers of a plain store hold."""
 
 import itertools
-import math
 import random
 import unittest
-from fractions import Fraction
 
 from markwords.errors import Nought, WrongKind
 from markwords.plain import PlainStore
-from tests.worths import NUMBERS, REGISTERS, THREE, Model, Twosome, look, put, refusal
-
-DEEDS_OF_TWO = {
-    "plus": lambda n, m: n + m,
-    "less": lambda n, m: n - m,
-    "times": lambda n, m: n * m,
-    "over": lambda n, m: math.floor(Fraction(n, m)),
-    "rest": lambda n, m: n - m * math.floor(Fraction(n, m)),
-}
+from tests.worths import DEEDS_OF_TWO, NUMBERS, REGISTERS, THREE, Model, Twosome, look, put, refusal
 
 
 class Registers(unittest.TestCase):

@@ -1,5 +1,8 @@
 """What several tests need: numbers to try, a model of the registers, and looks at a whole store."""
 
+import math
+from fractions import Fraction
+
 from markwords import errors
 
 SMALL = [0, 1, -1, 2, -2, 3, 7, -7, 10]
@@ -15,6 +18,13 @@ THREE = ["none", "no", "yes"]
 KINDS = ["number", "sign", "one", "pair"]
 REFUSALS = [errors.WrongKind, errors.Nought, errors.NoRoom, errors.Faulty, errors.NoText, errors.NotFormed]
 REGISTERS = range(8)
+DEEDS_OF_TWO = {
+    "plus": lambda n, m: n + m,
+    "less": lambda n, m: n - m,
+    "times": lambda n, m: n * m,
+    "over": lambda n, m: math.floor(Fraction(n, m)),
+    "rest": lambda n, m: n - m * math.floor(Fraction(n, m)),
+}
 
 
 class Twosome:
