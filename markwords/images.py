@@ -5,7 +5,7 @@ from markwords.layings import laying_fault, mark_of
 from markwords.limbs import PAIR_HEAD, number_at, size_at
 from markwords.plain import REGISTERS
 from markwords.store import most_outside, own_laying, store_of
-from markwords.things import heads_in, pair_words_at, read_worth
+from markwords.things import heads_in, is_pair, pair_words_at, read_worth
 from markwords.words import address_of, is_small, worth_of
 
 MOST_ROOM = 400
@@ -116,11 +116,6 @@ def opened(image):
     if fault is not None:
         raise Faulty(fault[0], fault[1])
     return store_of(image[0], image[1], image[2], image[3])
-
-
-def is_pair(worth):
-    """Whether what was read of a word is a pair's address."""
-    return isinstance(worth, tuple) and worth[0] == "pair"
 
 
 def alike(one, other):

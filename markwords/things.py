@@ -26,3 +26,8 @@ def read_worth(laying, outside, word):
     if mark_of(laying, word) == "far":
         return number_at(laying, outside, worth[1])
     return worth
+
+
+def is_pair(worth):
+    """Whether what was read of a word is a pair's address."""
+    return isinstance(worth, tuple) and worth[0] == "pair"

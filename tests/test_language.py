@@ -102,6 +102,9 @@ OWN_METHODS = {
 OWN_VALUES = {
     node.attr for source in SOURCES for node in source.all_of(ast.Attribute) if isinstance(node.ctx, ast.Store)
 }
+OWN_ERRORS = {
+    node.name for source in SOURCES if source.path.name == "errors.py" for node in source.all_of(ast.ClassDef)
+}
 
 
 class Language(unittest.TestCase):
@@ -139,6 +142,8 @@ class Language(unittest.TestCase):
                 if isinstance(node, ast.Assign):
                     for part in ast.walk(node.value):
                         self.assertNotIsInstance(part, (ast.Call, ast.Set, ast.Lambda, ast.ListComp), source.path)
+                    for part in list(ast.walk(node.value))[1:]:
+                        self.assertNotIsInstance(part, (ast.List, ast.Dict), source.path)
         for source, node, where in self.each(ast.ClassDef):
             self.assertIsInstance(source.parents[node], ast.Module, where)
 
@@ -185,7 +190,11 @@ class Language(unittest.TestCase):
         for source, node, where in self.each(ast.Try):
             self.assertEqual(node.finalbody, [], where)
         for source, node, where in self.each(ast.ExceptHandler):
-            self.assertIsNotNone(node.type, where)
+            self.assertIsInstance(node.type, ast.Name, where)
+            self.assertIn(node.type.id, OWN_ERRORS | {"KeyError", "ZeroDivisionError", "StopIteration"}, where)
+        for source, node, where in self.each(ast.Raise):
+            self.assertIsInstance(node.exc, ast.Call, where)
+            self.assertIn(called_name(node.exc), OWN_ERRORS, where)
         for source, node, where in self.each(ast.Expr):
             self.assertTrue(is_docstring(node) or isinstance(node.value, ast.Call), where)
         for source, node, where in self.each(ast.comprehension):
